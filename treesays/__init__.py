@@ -1,0 +1,1 @@
+"""Treesays: what holds in all words and trees."""
