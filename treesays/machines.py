@@ -110,7 +110,7 @@ def denied(machine):
 def joined(first, second, both):
     """The least machine that accepts what both machines accept or, if not `both`, one of them."""
     kind, tracks, table, good = least(first)
-    _, _, other_table, other_good = least(second)
+    other_table, other_good = least(second)[2:]
     pairs, places = each_once(list(zip(table, other_table)))
     states, rows = grown(kind[0], len(pairs), (0, 0), _pair_above(kind[0], pairs), MOST_STATES)
     if both:
