@@ -8,7 +8,7 @@ import unittest
 import warnings
 
 import treesays
-from treesays import errors, machines, shapes
+from treesays import atoms, deciding, errors, formulas, judge, machines, making, meaning, papers, reading, shapes
 
 FOLDER = pathlib.Path(treesays.__file__).parent
 FILES = sorted(FOLDER.glob("**/*.py"))
@@ -23,6 +23,20 @@ INTERFACE = {
         "is_machine": ["value"], "signs": ["kind", "tracks"], "state_of": ["machine", "marked"],
         "accepts": ["machine", "marked"], "mark": ["shape", "sets"], "least": ["machine"], "denied": ["machine"],
         "joined": ["first", "second", "both"], "hidden": ["machine", "track"], "spread": ["machine", "track"],
+    },
+    formulas: {
+        "free_variables": ["formula"], "check_formula": ["kind", "formula"], "check_sentence": ["kind", "formula"],
+        "depth": ["formula"],
+    },
+    reading: {"read_formula": ["text"], "write_formula": ["formula"]},
+    meaning: {"holds": ["formula", "shape", "values"]},
+    atoms: {"atom_machine": ["kind", "formula"]},
+    making: {"core": ["formula"], "machine_of": ["kind", "formula"]},
+    papers: {"paper": ["kind", "formula"]},
+    judge: {"judge": ["kind", "formula", "given"]},
+    deciding: {
+        "least_model": ["kind", "sentence"], "is_always": ["kind", "sentence"],
+        "least_parting": ["kind", "first", "second"], "equal": ["kind", "first", "second"],
     },
 }
 ERRORS = ["SayError", "InvalidKind", "InvalidShape", "InvalidSentence", "TooLarge", "NoSuchElement", "NoFunction",

@@ -62,6 +62,26 @@ def alike_numbers(ways, rows, good):
     return [numbers[name] for name in parting.class_of]
 
 
+def merged(ways, rows, truths):
+    """The rows and good states of the least machine, and for each state the one that it is there.
+
+    `rows` are the rows of a table whose states are numbered in the order in which they are found.
+    """
+    numbers = alike_numbers(ways, rows, truths)
+    # An alike state that was found first was found from such ones: from later
+    # ones it would have been found later. So these keep their order.
+    leaders = [numbers.index(number) for number in range(max(numbers) + 1)]
+    fewer = [_merged_row(row, ways, leaders, numbers) for row in rows]
+    return fewer, tuple([truths[state] for state in leaders]), numbers
+
+
+def _merged_row(row, ways, leaders, numbers):
+    """The row for the leaders alone, with the numbers of the states that stand there."""
+    if ways == 1:
+        return tuple([numbers[row[state]] for state in leaders])
+    return tuple([_merged_row(row[state], ways - 1, leaders, numbers) for state in leaders])
+
+
 def _moves(ways, rows):
     """All ways in which the state of one child settles the state above it, while the row and the
     other child stay as they are: tuples with a state for each state, each only once."""

@@ -1,6 +1,6 @@
 """Machines that read marked shapes, and what can be made of them."""
 
-from treesays.alike import alike_numbers
+from treesays.alike import merged
 from treesays.choices import Choices
 from treesays.errors import TooLarge
 from treesays.growing import at_places, each_once, grown
@@ -73,17 +73,10 @@ def mark(shape, sets):
 def least(machine):
     """The least machine that accepts the same."""
     kind, tracks, table, good = machine
-    ways = kind[0]
     # Rows that are equal find the same and part the same, so one of them is enough.
     rows, places = each_once(table)
-    states, rows = _reached(ways, rows)
-    truths = [good[state] for state in states]
-    numbers = alike_numbers(ways, rows, truths)
-    # An alike state that was found first was found from such ones: from later
-    # ones it would have been found later. So these keep their order.
-    leaders = [numbers.index(number) for number in range(max(numbers) + 1)]
-    rows = [_merged_row(row, ways, leaders, numbers) for row in rows]
-    return kind, tracks, at_places(rows, places), tuple([truths[state] for state in leaders])
+    states, rows = _reached(kind[0], rows)
+    return shrunk(kind, tracks, places, rows, [good[state] for state in states])
 
 
 def _reached(ways, rows):
@@ -93,11 +86,11 @@ def _reached(ways, rows):
     return grown(ways, len(rows), 0, lambda row, first, second: rows[row][first][second], None)
 
 
-def _merged_row(row, ways, leaders, numbers):
-    """The row for the leaders alone, with the numbers of the states that stand there."""
-    if ways == 1:
-        return tuple([numbers[row[state]] for state in leaders])
-    return tuple([_merged_row(row[state], ways - 1, leaders, numbers) for state in leaders])
+def shrunk(kind, tracks, places, rows, truths):
+    """The least machine for rows and good states that have grown; `places` has the place among the
+    rows for each sign."""
+    fewer, good, _ = merged(kind[0], rows, truths)
+    return kind, tracks, at_places(fewer, places), good
 
 
 def denied(machine):
@@ -117,7 +110,7 @@ def joined(first, second, both):
         truths = [good[one] and other_good[other] for one, other in states]
     else:
         truths = [good[one] or other_good[other] for one, other in states]
-    return least((kind, tracks, at_places(rows, places), tuple(truths)))
+    return shrunk(kind, tracks, places, rows, truths)
 
 
 def _pair_above(ways, pairs):
@@ -137,8 +130,9 @@ def _pair_above(ways, pairs):
 
 def hidden(machine, track):
     """The least machine without a track that accepts what the machine accepts with some marks on it."""
-    kind, tracks, table, good = least(machine)
-    pairs, places = each_once(_row_pairs(table, 1 << (tracks - 1 - track)))
+    machine = least(machine)
+    kind, tracks, _, good = machine
+    pairs, places = each_once(row_pairs(machine, track))
     choices = Choices(kind[0], pairs, len(good))
     if kind[0] == 1:
         above = choices.above_child
@@ -147,11 +141,13 @@ def hidden(machine, track):
     # The bit 0 alone: the empty shape has the state 0, whatever the marks.
     sets, rows = grown(kind[0], len(pairs), 1, above, MOST_STATES)
     truths = [any([good[state] for state in choices.states(chosen)]) for chosen in sets]
-    return least((kind, tracks - 1, at_places(rows, places), tuple(truths)))
+    return shrunk(kind, tracks - 1, places, rows, truths)
 
 
-def _row_pairs(table, step):
-    """The pairs of rows whose signs differ on one track alone; `step` is how far they are from each other."""
+def row_pairs(machine, track):
+    """The pairs of rows whose signs differ on one track alone."""
+    tracks, table = machine[1:3]
+    step = 1 << (tracks - 1 - track)
     return [(table[start + k], table[start + step + k])
             for start in range(0, len(table), 2 * step) for k in range(step)]
 
