@@ -99,6 +99,27 @@ class TrueTest(Case):
                 self.assertLess(len(set(given[2])), len(given[2]))
                 self.accept(kind, formula, given)
 
+    def test_states_of_the_machine_to_which_nothing_goes(self):
+        """The machine of a paper need not be least, and nothing is said of such states."""
+        for kind in (A, AB, TREE_A):
+            for text in ("not true", "not label a(x)", "some x: top(x)", "true and true", "some X: in(x, X)",
+                         "some x: true", "some X: true", "not some x: not top(x)"):
+                formula = read_formula(text)
+                machine, raw, notes, merge, parts = paper(kind, formula)
+                count = len(machine[3])
+                for more, goal in ((1, 0), (1, count), (2, count + 1), (3, count - 1)):
+                    for good in ([], [count], list(range(count, count + more))):
+                        wide = with_states(machine, more, lambda sign, states: goal, good)
+                        self.accept(kind, formula, (wide, raw, notes, merge, parts))
+                        self.refuse(kind, formula, (wide, raw, notes, (count,) + merge[1:], parts))
+                        self.refuse(kind, formula, (wide, raw, notes, merge[:-1] + (count + more,), parts))
+                        self.refuse(kind, formula, (wide, raw, notes, merge[:-1] + (-1,), parts))
+                # A part may have such a machine, too.
+                around = ("not", formula)
+                outer = paper(kind, around)
+                wide = with_states(machine, 1, lambda sign, states: 0, [])
+                self.accept(kind, around, (*outer[:4], ((wide, raw, notes, merge, parts),)))
+
     def test_raw_of_one_paper_with_another_least_machine(self):
         """The states of the machine may be numbered otherwise."""
         formula = read_formula("some x: label a(x)")
@@ -139,6 +160,15 @@ def with_entry(machine, row, states, new):
         return entry(machine, signs.index(sign), some)
 
     return make_machine(machine[0], machine[1], len(machine[3]), above, good)
+
+
+def leads_on(raw, merge, machine):
+    """What stands behind the colon in point 15, 3."""
+    entries = itertools.product(range(len(raw[2])), itertools.product(range(len(merge)), repeat=raw[0][0]))
+    return merge[0] == 0 and list(raw[3]) == [machine[3][goal] for goal in merge] and all(
+        merge[entry(raw, row, states)] == entry(machine, row, [merge[state] for state in states])
+        for row, states in entries
+    )
 
 
 def renumbered(machine, order):
@@ -244,12 +274,15 @@ class UnreachedStateTest(Case):
                 self.refuse(kind, formula, (changed, changed, notes, merge, parts))
 
     def test_they_go_where_the_machine_goes(self):
+        """Another merge is right only if it leads on, too."""
+        found = []
         for kind, formula, (machine, raw, notes, merge, parts), unreached in self.cases:
             for state in unreached:
                 for goal in range(len(notes)):
-                    if goal != state:
-                        changed = merge[:state] + (goal,) + merge[state + 1:]
-                        self.refuse(kind, formula, (machine, raw, notes, changed, parts))
+                    changed = merge[:state] + (goal,) + merge[state + 1:]
+                    found.append(judge(kind, formula, (machine, raw, notes, changed, parts)))
+                    self.assertIs(found[-1], leads_on(raw, changed, machine))
+        self.assertGreater(found.count(False), found.count(True))
 
 
 class FalseTest(Case):
@@ -323,8 +356,6 @@ class FalseTest(Case):
             for text in ("not label a(x)", "some x: top(x)", "true and true", "some X: in(x, X)"):
                 formula = read_formula(text)
                 machine, raw, notes, merge, parts = paper(kind, formula)
-                wide = with_states(machine, 1, lambda sign, states: 0, [])
-                self.refuse(kind, formula, (wide, raw, notes, merge, parts))
                 wide = with_states(raw, 1, lambda sign, states: 0, [])
                 self.refuse(kind, formula, (machine, wide, notes, merge, parts))
                 self.refuse(kind, formula, (machine, raw, notes + notes[-1:], merge, parts))

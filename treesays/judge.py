@@ -52,10 +52,11 @@ def _is_shown(kind, formula, given):
 
 
 def _is_merge(value, count, goals):
-    """Whether a value leads so many states onto so many, and 0 to 0."""
-    if not isinstance(value, tuple) or len(value) != count or not all([is_whole(state) for state in value]):
+    """Whether a value leads so many states to states below a number, and 0 to 0."""
+    if not isinstance(value, tuple) or len(value) != count:
         return False
-    return value[0] == 0 and sorted(set(value)) == list(range(goals))
+    # A state of the machine to which nothing leads may be there: nothing is said of it.
+    return all([is_whole(state) and 0 <= state < goals for state in value]) and value[0] == 0
 
 
 def _leads(notes, meanings, raw, merge, machine):
