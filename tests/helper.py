@@ -417,6 +417,15 @@ def letter_at(distance, label="a"):
     return ("some", "x", ("and", ("top", "x"), formula))
 
 
+def full_tree(height, name="x"):
+    """At an element there is a tree with this height in which no child is missing but below the last row."""
+    other = "y" if name == "x" else "x"
+    if height == 1:
+        return f"not some {other}: (child 0({name}, {other}) or child 1({name}, {other}))"
+    inside = full_tree(height - 1, other)
+    return " and ".join(f"some {other}: (child {k}({name}, {other}) and ({inside}))" for k in (0, 1))
+
+
 # Papers.
 
 CORES = """
@@ -543,3 +552,73 @@ def plain_paper(random, kind, formula, atom_machine, copies=1, more=()):
         [place for place, note in enumerate(notes) if is_good_note(formula, machines, note)],
     )
     return raw, raw, tuple(notes), tuple(range(len(notes))), parts
+
+
+# Shapes in their order, and expressions.
+
+def in_order(kind, most):
+    """All shapes up to a size, in the order of point 5."""
+    return [
+        shape for size in range(most + 1) for shape in sorted(plain_shapes(kind[0], kind[1], size), key=plain_text)
+    ]
+
+
+def first_with(shapes, test):
+    return next((shape for shape in shapes if test(shape)), None)
+
+
+def plain_rows(shape):
+    """The rows that a tree is, written as in point 22."""
+    return [(shape[0], plain_rows(shape[1]))] + plain_rows(shape[2]) if shape else []
+
+
+def letters_of(shape):
+    """The letters of a word, as a text."""
+    return shape[0] + letters_of(shape[1]) if shape else ""
+
+
+def all_texts(labels, most):
+    """All words up to a length, as texts."""
+    return ["".join(some) for length in range(most + 1) for some in itertools.product(labels, repeat=length)]
+
+
+def plain_told(expression, most):
+    """The set of the words up to a length that an expression tells, as texts: point 24, word by word."""
+    form = expression[0]
+    if form == "none":
+        return set()
+    if form == "empty":
+        return {""}
+    if form == "letter":
+        return {expression[1]} if most else set()
+    if form == "either":
+        return plain_told(expression[1], most) | plain_told(expression[2], most)
+    first = plain_told(expression[1], most)
+    if form == "then":
+        last = plain_told(expression[2], most)
+        return {one + other for one in first for other in last if len(one + other) <= most}
+    found = {""}
+    while True:
+        more = found | {one + other for one in found for other in first if len(one + other) <= most}
+        if more == found:
+            return found
+        found = more
+
+
+def random_expression(random, labels, deep):
+    if deep == 1 or random.random() < 0.15:
+        return random.choice([("none",), ("empty",)] + 3 * [("letter", label) for label in labels])
+    form = random.choice(["then", "either", "many", "then", "either"])
+    return (form, *[random_expression(random, labels, deep - 1) for _ in range(1 if form == "many" else 2)])
+
+
+def balanced(form, parts):
+    """Some parts joined by then or either, or by and or or, nested as little as may be."""
+    while len(parts) > 1:
+        parts = [(form, *parts[k:k + 2]) if k + 1 < len(parts) else parts[k] for k in range(0, len(parts), 2)]
+    return parts[0]
+
+
+def spelled(text):
+    """The expression that tells one word."""
+    return balanced("then", [("letter", letter) for letter in text])

@@ -4,7 +4,8 @@ import random
 import unittest
 
 from helper import (
-    NO_KINDS, letter_at, nested, plain_holds, plain_paths, plain_shapes, plain_text, random_formula, word,
+    NO_KINDS, first_with, full_tree, in_order, letter_at, nested, plain_holds, plain_paths, plain_text,
+    random_formula, word,
 )
 from treesays.deciding import equal, is_always, least_model, least_parting
 from treesays.errors import InvalidKind, InvalidSentence, TooLarge
@@ -21,17 +22,6 @@ def read(text):
     return read_formula(text)
 
 
-def in_order(kind, most):
-    """All shapes up to a size, in the order of point 5."""
-    return [
-        shape for size in range(most + 1) for shape in sorted(plain_shapes(kind[0], kind[1], size), key=plain_text)
-    ]
-
-
-def first_with(shapes, test):
-    return next((shape for shape in shapes if test(shape)), None)
-
-
 def bits(name, number, many):
     """The element is in the sets B0, B1 .. as the bits of a number tell."""
     return " and ".join(("" if number >> k & 1 else "not ") + f"in({name}, B{k})" for k in range(many))
@@ -43,15 +33,6 @@ def multiple(number, many):
     text = (f"(all x: (some y: child 0(x, y) or {bits('x', 1 % number, many)}) and "
             f"all x: all y: (not child 0(x, y) or {steps}) and all x: (not top(x) or {bits('x', 0, many)}))")
     return "".join(f"some B{k}: " for k in range(many)) + text
-
-
-def full_tree(height, name="x"):
-    """At an element there is a tree with this height in which no child is missing but below the last row."""
-    other = "y" if name == "x" else "x"
-    if height == 1:
-        return f"not some {other}: (child 0({name}, {other}) or child 1({name}, {other}))"
-    inside = full_tree(height - 1, other)
-    return " and ".join(f"some {other}: (child {k}({name}, {other}) and ({inside}))" for k in (0, 1))
 
 
 def full(height):

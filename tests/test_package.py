@@ -8,7 +8,10 @@ import unittest
 import warnings
 
 import treesays
-from treesays import atoms, deciding, errors, formulas, judge, machines, making, meaning, papers, reading, shapes
+from treesays import (
+    atoms, counting, deciding, documents, errors, expressions, formulas, judge, machines, making, meaning, papers,
+    plain, questions, readback, reading, relabelings, schemas, shapes,
+)
 
 FOLDER = pathlib.Path(treesays.__file__).parent
 FILES = sorted(FOLDER.glob("**/*.py"))
@@ -38,6 +41,33 @@ INTERFACE = {
         "least_model": ["kind", "sentence"], "is_always": ["kind", "sentence"],
         "least_parting": ["kind", "first", "second"], "equal": ["kind", "first", "second"],
     },
+    counting: {
+        "counts": ["kind", "sentence", "size"], "recurrence": ["kind", "sentence"], "keeps": ["machine", "numbers"],
+    },
+    questions: {
+        "answers": ["kind", "question", "shape"], "failure": ["kind", "formula"],
+        "image": ["kind", "formula", "shape", "path"],
+    },
+    readback: {"sentence_of": ["machine"]},
+    documents: {"Document": ["labels"]},
+    expressions: {
+        "check_expression": ["kind", "expression"], "tells": ["expression", "word"],
+        "expression_machine": ["kind", "expression"], "expression_of": ["machine"],
+    },
+    schemas: {
+        "keeps_schema": ["labels", "schema", "shape"], "schema_machine": ["labels", "schema"],
+        "least_kept": ["labels", "schema"], "least_stray": ["labels", "first", "second"],
+        "least_unlike": ["labels", "schema", "sentence"], "tree_of_rows": ["rows"], "rows_of_tree": ["shape"],
+    },
+    relabelings: {
+        "relabeled": ["kind", "rules", "shape"], "before": ["kind", "rules", "formula"],
+        "together": ["kind", "first", "second"],
+    },
+    plain: {"plain": ["formula"], "is_plain": ["formula"]},
+}
+METHODS = {
+    "insert": ["place", "label"], "remove": ["place"], "relabel": ["place", "label"], "move": ["place", "goal"],
+    "label": ["place"], "rows": [], "tree": [], "stand": ["name", "formula"], "ask": ["name"], "looked": [],
 }
 ERRORS = ["SayError", "InvalidKind", "InvalidShape", "InvalidSentence", "TooLarge", "NoSuchElement", "NoFunction",
           "UnknownQuestion", "SyntaxProblem"]
@@ -78,6 +108,12 @@ class InterfaceTest(unittest.TestCase):
                 with self.subTest(name):
                     self.assertIn(name, self.defined_in(module))
                     self.assertEqual(list(inspect.signature(getattr(module, name)).parameters), arguments)
+
+    def test_methods_are_defined_in_the_class_itself(self):
+        for name, arguments in METHODS.items():
+            with self.subTest(name):
+                self.assertIn(name, vars(documents.Document))
+                self.assertEqual(list(inspect.signature(vars(documents.Document)[name]).parameters)[1:], arguments)
 
     def test_errors_are_defined_in_their_file(self):
         self.assertEqual(sorted(self.defined_in(errors)), sorted(ERRORS))

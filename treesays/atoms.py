@@ -1,9 +1,10 @@
 """Machines of atoms."""
 
 from treesays.errors import InvalidSentence
-from treesays.formulas import check_formula, free_variables, inner, is_element_name
+from treesays.formulas import check_formula, free_variables, is_element_name
 from treesays.growing import each_once, grown
 from treesays.machines import shrunk, signs
+from treesays.parts import inner
 
 # The meaning of a marked shape in which an element variable has two elements:
 # nothing above makes up for this.

@@ -1,6 +1,7 @@
 """The least shape that a machine accepts."""
 
 from treesays.errors import TooLarge
+from treesays.growing import entry
 from treesays.shapes import write_shape
 
 MOST_ELEMENTS = 400
@@ -45,7 +46,7 @@ class Search:
         for children in self._children():
             texts = [self.texts[child] for child in children]
             for label, row in zip(self.kind[1], self.table):
-                state = _entry(row, children)
+                state = entry(row, children)
                 if state not in self.texts and (state not in best or (label, texts) < best[state][:2]):
                     best[state] = (label, texts, children)
         for state, (label, _, children) in best.items():
@@ -63,11 +64,3 @@ class Search:
             for first in firsts
             for second in seconds
         ]
-
-
-def _entry(row, children):
-    """What stands in a row above these states."""
-    found = row
-    for child in children:
-        found = found[child]
-    return found

@@ -1,56 +1,18 @@
 """Formulas: their parts, their free variables, and whether they fit a kind."""
 
 from treesays.errors import InvalidSentence
+from treesays.parts import all_parts, built
 from treesays.shapes import check_kind
 
 MOST_FREE = 6
 MOST_DEEP = 40
 
 QUANTIFIERS = ("some", "all", "someset", "allset")
-# Where the formulas directly inside begin; in other forms there are none.
-INSIDE = {"not": 1, "and": 1, "or": 1, "some": 2, "all": 2, "someset": 2, "allset": 2}
-
-
-def inner(formula):
-    """The tuple of the formulas directly inside of a formula."""
-    return formula[INSIDE.get(formula[0], len(formula)):]
 
 
 def is_element_name(name):
     """Whether a variable is an element variable."""
     return "a" <= name[0] <= "z"
-
-
-def all_parts(formula):
-    """All parts, each one ahead of those inside of it."""
-    waiting = [formula]
-    found = []
-    while waiting:
-        now = waiting.pop()
-        found.append(now)
-        waiting.extend(list(reversed(inner(now))))
-    return found
-
-
-def built(formula, above):
-    """What comes out if each part gives what `above` tells of it and of the
-    list of what the formulas directly inside of it gave.
-
-    Parts that are equal give the same; it is asked for only once.
-    """
-    # Formulas may be nested deeper than calls of functions, and than keys of
-    # dicts, may be. So this is a loop, and a key has numbers for what is inside.
-    numbers = {}
-    results = []
-    waiting = []
-    for now in reversed(all_parts(formula)):
-        inside = [waiting.pop() for _ in inner(now)]
-        key = (*now[:len(now) - len(inside)], *inside)
-        if key not in numbers:
-            results.append(above(now, [results[number] for number in inside]))
-            numbers[key] = len(results) - 1
-        waiting.append(numbers[key])
-    return results[waiting[0]]
 
 
 def depth(formula):

@@ -73,3 +73,11 @@ def each_once(rows):
 def at_places(table, places):
     """A table with the row at each of these places."""
     return tuple([table[place] for place in places])
+
+
+def entry(row, states):
+    """What stands in a row of a table above these states of the children."""
+    found = row
+    for state in states:
+        found = found[state]
+    return found

@@ -1,10 +1,11 @@
 """The judge of papers."""
 
 from treesays.atoms import atom_machine
-from treesays.formulas import free_variables, inner
+from treesays.formulas import free_variables
 from treesays.growing import each_once
 from treesays.machines import is_machine
 from treesays.notes import above_of, notes_for
+from treesays.parts import inner
 from treesays.shapes import check_kind, is_whole
 
 

@@ -3,7 +3,7 @@
 from treesays.alike import merged
 from treesays.choices import Choices
 from treesays.errors import TooLarge
-from treesays.growing import at_places, each_once, grown
+from treesays.growing import at_places, each_once, entry, grown
 from treesays.shapes import check_kind, folded, is_kind, is_whole, labels_of, paths, with_labels
 
 MOST_TRACKS = 6
@@ -48,14 +48,7 @@ def state_of(machine, marked):
     """The state of a marked shape."""
     kind, tracks, table, _ = machine
     rows = {sign: row for sign, row in zip(signs(kind, tracks), table)}
-
-    def state_above(sign, states):
-        found = rows[sign]
-        for state in states:
-            found = found[state]
-        return found
-
-    return folded(marked, 0, state_above)
+    return folded(marked, 0, lambda sign, states: entry(rows[sign], states))
 
 
 def accepts(machine, marked):

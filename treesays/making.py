@@ -1,10 +1,11 @@
 """Machines of formulas."""
 
 from treesays.atoms import atom_machine
-from treesays.formulas import built, check_formula, free_variables
+from treesays.formulas import check_formula, free_variables
 from treesays.growing import grown
 from treesays.machines import MOST_STATES, shrunk
 from treesays.notes import Counted, above_of, notes_for
+from treesays.parts import built, outer
 
 # The meaning of all marked shapes above which nothing is accepted.
 LOST = ()
@@ -20,7 +21,7 @@ def _core_above(now, inside):
     if now[0] in ("all", "allset"):
         word = "some" if now[0] == "all" else "someset"
         return ("not", (word, now[1], ("not", *inside)))
-    return (*now[:len(now) - len(inside)], *inside)
+    return (*outer(now), *inside)
 
 
 def machine_of(kind, formula):
@@ -63,11 +64,11 @@ def _lost_test(word, machines):
     """What tells whether nothing above a meaning (of Counted) is accepted."""
     lost = [None, None]
     if word == "and":
-        lost = [_lost_state(machine) for machine in machines]
+        lost = [lost_state(machine) for machine in machines]
     return lambda meaning: meaning[3] > 0 or meaning[0] == lost[0] or meaning[1] == lost[1]
 
 
-def _lost_state(machine):
+def lost_state(machine):
     """The state of a least machine above which nothing is accepted, or None if it has none."""
     kind, _, table, good = machine
     for state, truth in enumerate(good):

@@ -1,6 +1,7 @@
 """The plain meaning of formulas."""
 
-from treesays.formulas import built, free_variables, is_element_name
+from treesays.formulas import free_variables, is_element_name
+from treesays.parts import built
 from treesays.shapes import labels_of, paths
 
 

@@ -8,9 +8,10 @@ that is found faster: `note_of` and `meaning_of` lead from one to the other.
 
 from treesays.atoms import atom_machine
 from treesays.choices import Choices
-from treesays.formulas import free_variables, inner, is_element_name
+from treesays.formulas import free_variables, is_element_name
 from treesays.growing import each_once
 from treesays.machines import row_pairs, signs
+from treesays.parts import inner
 from treesays.shapes import is_whole
 
 

@@ -3,10 +3,11 @@
 from treesays.alike import merged
 from treesays.atoms import atom_machine
 from treesays.errors import InvalidSentence
-from treesays.formulas import all_parts, built, check_formula, free_variables
+from treesays.formulas import check_formula, free_variables
 from treesays.growing import at_places, grown
 from treesays.machines import MOST_STATES
 from treesays.notes import above_of, notes_for
+from treesays.parts import all_parts, built
 
 
 def paper(kind, formula):

@@ -1,7 +1,8 @@
 """Texts of formulas."""
 
 from treesays.errors import SyntaxProblem
-from treesays.formulas import built, inner, is_element_name
+from treesays.formulas import is_element_name
+from treesays.parts import built, inner
 
 SMALL = "abcdefghijklmnopqrstuvwxyz"
 CAPITALS = "ABCDEFGHIJKLMNOPQRSTUVWXYZ"
