@@ -1,14 +1,15 @@
 """The least shape that a machine accepts."""
 
 from treesays.errors import TooLarge
-from treesays.growing import entry
+from treesays.growing import each_once, entry
+from treesays.machines import signs
 from treesays.shapes import write_shape
 
 MOST_ELEMENTS = 400
 
 
 def least_accepted(machine):
-    """The least shape that a least machine without tracks accepts, or None if there is none.
+    """The least shape that a least machine accepts, with some marks if it has tracks, or None if there is none.
 
     Raises TooLarge if it has more than 400 elements.
     """
@@ -32,7 +33,9 @@ class Search:
     """
 
     def __init__(self, machine):
-        self.kind, _, self.table, _ = machine
+        self.kind, tracks, table, _ = machine
+        # Signs that differ in their marks alone stand for the same label.
+        self.rows = each_once([(sign[0], row) for sign, row in zip(signs(self.kind, tracks), table)])[0]
         self.shapes = {0: ()}
         self.texts = {0: write_shape(())}
         # For each size, from 0 on, the states whose least shapes have it.
@@ -45,7 +48,7 @@ class Search:
         best = {}
         for children in self._children():
             texts = [self.texts[child] for child in children]
-            for label, row in zip(self.kind[1], self.table):
+            for label, row in self.rows:
                 state = entry(row, children)
                 if state not in self.texts and (state not in best or (label, texts) < best[state][:2]):
                     best[state] = (label, texts, children)

@@ -2,7 +2,7 @@
 
 from treesays.bits import numbers_in
 from treesays.growing import each_once, grown
-from treesays.machines import MOST_STATES, hidden, row_pairs, shrunk
+from treesays.machines import MOST_STATES, row_pairs, shrunk
 from treesays.making import lost_state
 from treesays.notes import above_of
 
@@ -11,15 +11,15 @@ LOST = ()
 
 
 def failing(machine):
-    """The least machine that accepts the shapes with an element for which a least machine, if this
-    element alone is marked on its first track, accepts no element or several on its second one."""
+    """The least machine with one track that accepts a shape with one mark if a least machine with
+    two tracks accepts it with the mark on its first one and no element or several on its second one."""
     kind = machine[0]
     # For each sign with the first track alone, the rows without and with a mark on the second one.
     marks = [k % 2 for k in range(2 * len(kind[1]))]
     views, places = each_once([(zero, one, mark) for (zero, one), mark in zip(row_pairs(machine, 1), marks)])
     tally = Tally(machine, views)
     meanings, rows = grown(kind[0], len(views), (0, 0, 0, 0), above_of(tally, kind[0]), MOST_STATES)
-    return hidden(shrunk(kind, 1, places, rows, [tally.is_failing(meaning) for meaning in meanings]), 0)
+    return shrunk(kind, 1, places, rows, [tally.is_failing(meaning) for meaning in meanings])
 
 
 class Tally:
