@@ -512,6 +512,16 @@ class LookedTest(unittest.TestCase):
             self.assertIs(document.ask("s"), True)
             self.assertEqual(document.looked(), 0)
 
+    def test_items_whose_answers_change_are_looked_at(self):
+        """An edit ahead of them changes nothing of their parts, but what is asked of them."""
+        document = build(Document(AB), [("a", [])] * 40)
+        document.stand("q", read("some y: (below(y, x) and label b(y))"))
+        self.assertEqual(document.ask("q"), [])
+        document.looked()
+        document.relabel((0,), "b")
+        self.assertEqual(document.ask("q"), [(number,) for number in range(1, 40)])
+        self.assertEqual(document.looked(), 40)
+
     def test_parts_that_an_edit_does_not_reach(self):
         """In the tree, an edit reaches the elements above it alone."""
         document = Document(AB)

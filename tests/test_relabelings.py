@@ -249,6 +249,9 @@ class ErrorsTest(unittest.TestCase):
         self.assertRaises(error, together, kind, rules, self.RIGHT)
         self.assertRaises(error, together, kind, self.RIGHT, rules)
         self.assertRaises(error, together, kind, rules, rules)
+        if rules:
+            self.assertRaises(error, together, kind, rules, ())
+            self.assertRaises(error, together, kind, (), rules)
 
     def test_the_kind_comes_first(self):
         for kind in NO_KINDS:

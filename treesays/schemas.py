@@ -7,7 +7,7 @@ from treesays.formulas import check_sentence
 from treesays.growing import grown
 from treesays.machines import MOST_STATES, denied, joined, shrunk
 from treesays.making import lost_state, machine_of
-from treesays.shapes import check_kind, folded
+from treesays.shapes import folded
 
 # The meaning of all rows with which no document keeps a schema.
 LOST = ()
@@ -57,7 +57,6 @@ def _least_without(machine, other):
 def _check_schema(labels, schema):
     """Raise the first error that there is in a schema."""
     top, rules = schema
-    check_kind((1, labels))
     for expression in (top, *rules):
         check_expression((1, labels), expression)
     if len(rules) != len(labels):
